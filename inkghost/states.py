@@ -40,6 +40,13 @@ def is_bank_set(panel, banks):
     return is_ascending(banks)
 
 
+def check_banks(panel, banks):
+    """Refuse what is not a panel, then what is not a set of banks of it."""
+    check_panel(panel)
+    if not is_bank_set(panel, banks):
+        raise BadBanks("not a set of banks of the panel")
+
+
 def bank_sets(panel):
     """Give all sets of banks of the panel, in order."""
     found = [()]
@@ -114,7 +121,5 @@ def after(panel, state, picture, banks):
 
 def price(panel, banks):
     """Give what flashing some banks costs."""
-    check_panel(panel)
-    if not is_bank_set(panel, banks):
-        raise BadBanks("not a set of banks of the panel")
+    check_banks(panel, banks)
     return sum([panel.prices[bank] for bank in banks])

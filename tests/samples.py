@@ -1,12 +1,13 @@
 """Panels and wrong values that several tests use, and a second, plain account of what the document says."""
 
+import random
+
 from inkghost.panels import Panel
 
 BOTH = {"0": ("0", "1"), "1": ("0", "1")}
 FLIP = {"0": ("1",), "1": ("0",)}
 THREE = {"00": ("11",), "11": ("00", "01"), "01": ("00",)}
 CUBE = {"000": ("000", "011", "111"), "011": ("100",), "100": ("000", "111"), "111": ("011",)}
-
 
 
 class Agreeable:
@@ -44,6 +45,28 @@ def samples():
         Panel((0, 1, 2), 2, (5, 1, 5), {"000": ("001",), "001": ("010",), "010": ("011",), "011": ("100",),
                                         "100": ("000", "011")}),
     ]
+
+
+def random_panel(source, cells):
+    """Make a panel of so many cells, with banks, bound, prices and pictures by chance."""
+    banks = [source.randrange(cells) for _ in range(cells)]
+    banks = tuple(sorted(set(banks)).index(bank) for bank in banks)
+    bound = source.choice([bound for bound in (1, 2, 3, 4) if (bound + 1) ** cells <= 27])
+    prices = tuple(source.randint(1, 5) for _ in set(banks))
+    pictures = [format(number, f"0{cells}b") for number in range(2 ** cells)]
+    pictures = source.sample(pictures, source.randint(1, min(5, len(pictures))))
+    # The next picture in the list always follows, so that each one can be reached.
+    follows = {}
+    for at, picture in enumerate(pictures):
+        more = [other for other in pictures if source.random() < 0.3]
+        follows[picture] = tuple(sorted({pictures[at - 1], *more}))
+    return Panel(banks, bound, prices, follows)
+
+
+def random_panels(seed, many):
+    """Make panels with one, two and three cells by chance, the same ones at each run."""
+    source = random.Random(seed)
+    return [random_panel(source, number % 3 + 1) for number in range(many)]
 
 
 def all_sets(panel):

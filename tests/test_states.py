@@ -1,12 +1,12 @@
 """Tests of inkghost.states: points 3 and 4 of the document."""
 
-import doctest
 import unittest
 
-from inkghost.errors import BadBanks, BadPanel, BadPicture, BadState
+from inkghost.errors import BadBanks, BadPicture, BadState
 from inkghost.panels import Panel
 from inkghost.states import after, choices, price, start, states
-from samples import (BOTH, FLIP, STRANGE, THREE, all_sets, all_states, example, led_to, must_flash, samples)
+from samples import BOTH, FLIP, THREE, all_sets, all_states, example, led_to, must_flash, samples
+from wrong import NO_BANKS, NO_PICTURES, NO_STATES, DocumentCase
 
 EXAMPLE = """
 >>> from inkghost.panels import Panel
@@ -17,37 +17,13 @@ EXAMPLE = """
 [('00', (0, 0)), ('11', (1, 1)), [(0, 1)], [(0,), (0, 1)], ('01', (0, 1)), 5, 12]
 """
 
-NO_PANELS = [*STRANGE, 0, "", (), {}, Panel, ((0, 1), 1, (2, 3), THREE)]
-NO_STATES = [*STRANGE, 0, "00", "", (), {}, ("00",), ("00", (0, 0), 0), ["00", (0, 0)], ("00", [0, 0]), ("00", 0),
-             ("00", None), ("00", "00"), ("00", ()), ("00", (0,)), ("00", (0, 0, 0)), ("00", (0, 2)), ("00", (2, 0)),
-             ("00", (0, -1)), ("00", (-1, 0)), ("00", (False, 0)), ("00", (0, True)), ("00", (0, None)),
-             ("00", (0, "0")), ("00", (0, (0,))), ("00", ([], 0)), ("00", (0, 10 ** 40)), ("10", (0, 0)),
-             ("0", (0, 0)), ("000", (0, 0)), ("", (0, 0)), ("11 ", (0, 0)), (b"00", (0, 0)), (0, (0, 0)),
-             (None, (0, 0)), (["00"], (0, 0)), ({}, (0, 0)), (("00",), (0, 0)), (True, (0, 0)), ((0, 0), "00")]
-# Nothing here can follow 11; the words are no pictures, or pictures that cannot come next.
-NO_PICTURES = [*STRANGE, 0, 1, (), ("00",), {}, "", "0", "000", "11", "10", "00 ", "rest"]
-NO_BANKS = [*STRANGE, 0, 1, "", "0", {}, {0: 0}, [0, 1], (True,), (False,), (False, 1), (0, True), (None,), ("0",),
-            ((0,),), ([],), (0, [1]), (2,), (0, 2), (-1,), (-1, 0), (1, 0), (0, 0), (1, 1), (0, 1, 1), (0, 1, 2),
-            (10 ** 40,)]
 
-
-class StatesCase(unittest.TestCase):
-    def panel_refused(self, function, *rest):
-        for value in NO_PANELS:
-            with self.assertRaises(BadPanel) as caught:
-                function(value, *rest)
-            self.assertIsNone(caught.exception.part)
-
-
-class ExampleTest(unittest.TestCase):
+class ExampleTest(DocumentCase):
     def test_the_example_of_the_interface(self):
-        test = doctest.DocTestParser().get_doctest(EXAMPLE, {}, "states", None, 0)
-        told = []
-        failed, tried = doctest.DocTestRunner(verbose=False).run(test, out=told.append)
-        self.assertEqual((failed, tried, told), (0, 5, []))
+        self.example_holds(EXAMPLE, 5)
 
 
-class StartTest(StatesCase):
+class StartTest(DocumentCase):
     def test_the_first_picture_without_ghosts(self):
         self.assertEqual(start(example()), ("00", (0, 0)))
         self.assertEqual(start(Panel((0,), 4, (1,), FLIP)), ("0", (0,)))
@@ -61,7 +37,7 @@ class StartTest(StatesCase):
         self.panel_refused(start)
 
 
-class AllStatesTest(StatesCase):
+class AllStatesTest(DocumentCase):
     def test_small_panels(self):
         self.assertEqual(states(Panel((0,), 1, (1,), {"0": ("0",)})), [("0", (0,))])
         self.assertEqual(states(Panel((0,), 1, (1,), FLIP)),
@@ -97,7 +73,7 @@ class AllStatesTest(StatesCase):
         self.panel_refused(states)
 
 
-class ChoicesTest(StatesCase):
+class ChoicesTest(DocumentCase):
     def test_order_by_size_and_then_as_tuples(self):
         panel = Panel((2, 0, 1), 1, (1, 1, 1), {"000": ("000",)})
         expected = [(), (0,), (1,), (2,), (0, 1), (0, 2), (1, 2), (0, 1, 2)]
@@ -151,7 +127,7 @@ class ChoicesTest(StatesCase):
                         choices(example(), state, picture)
 
 
-class AfterTest(StatesCase):
+class AfterTest(DocumentCase):
     def test_changed_cells_and_others(self):
         panel = Panel((0, 1, 1), 2, (1, 1), {"000": ("011",), "011": ("000",)})
         self.assertEqual(after(panel, ("000", (1, 1, 0)), "011", ()), ("011", (1, 2, 1)))
@@ -200,7 +176,7 @@ class AfterTest(StatesCase):
         self.assertEqual(after(panel, ("11", (1, 1)), "01", (0,)), ("01", (0, 1)))
 
 
-class PriceTest(StatesCase):
+class PriceTest(DocumentCase):
     def test_sums_of_prices(self):
         panel = Panel((2, 0, 1), 1, (1, 2, 5), {"000": ("000",)})
         expected = {(): 0, (0,): 1, (1,): 2, (2,): 5, (0, 1): 3, (0, 2): 6, (1, 2): 7, (0, 1, 2): 8}
