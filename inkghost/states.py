@@ -76,6 +76,13 @@ def possible_sets(panel, state, picture):
     ]
 
 
+def check_update(panel, state, picture, banks):
+    """Refuse what is not a panel, a state of it, a picture that can follow, or banks for it, in this order."""
+    check_picture(panel, state, picture)
+    if not is_bank_set(panel, banks) or banks not in possible_sets(panel, state, picture):
+        raise BadBanks("not a set of banks that can be flashed then")
+
+
 def states_after(panel, state):
     """Give the states to which one update can lead, some of them perhaps several times."""
     return [
@@ -113,9 +120,7 @@ def choices(panel, state, picture):
 
 def after(panel, state, picture, banks):
     """Give the state after an update."""
-    check_picture(panel, state, picture)
-    if not is_bank_set(panel, banks) or banks not in possible_sets(panel, state, picture):
-        raise BadBanks("not a set of banks that can be flashed then")
+    check_update(panel, state, picture, banks)
     return (picture, ghosts_after(panel, state, picture, banks))
 
 

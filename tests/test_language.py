@@ -77,7 +77,9 @@ class LanguageTest(unittest.TestCase):
             self.assertEqual(node.level, 0, name)
             package, file = node.module.split(".")
             self.assertEqual(package, "inkghost", name)
-            defined = {named(one) for one in self.trees[file + ".py"].body if not isinstance(one, ast.ImportFrom)}
+            body = self.trees[file + ".py"].body
+            defined = {named(one) for one in body if not isinstance(one, ast.ImportFrom)}
+            defined |= {named(one.targets[0]) for one in body if isinstance(one, ast.Assign)}
             for alias in node.names:
                 self.assertIsNone(alias.asname, name)
                 self.assertIn(alias.name, defined, name)
@@ -116,6 +118,19 @@ class LanguageTest(unittest.TestCase):
             for node in ast.walk(tree):
                 if isinstance(node, ast.arg) or isinstance(node, ast.Name) and isinstance(node.ctx, ast.Store):
                     self.assertNotIn(named(node), taken, name)
+
+    def test_ends_of_trials_only_assign_attributes(self):
+        for name, node in self.nodes(ast.FunctionDef):
+            if node.name == "__exit__":
+                for row in node.body:
+                    self.assertIsInstance(row, ast.Assign, name)
+                    self.assertEqual([*map(type, row.targets), type(row.value)], [ast.Attribute] * 2, name)
+
+    def test_names_of_properties_are_not_stored(self):
+        names = {node.name for _, node in self.nodes(ast.FunctionDef) if node.decorator_list}
+        stored = {node.attr for _, node in self.nodes(ast.Attribute) if isinstance(node.ctx, ast.Store)}
+        self.assertEqual(names, {"banks", "bound", "prices", "follows", "state", "journal"})
+        self.assertEqual(names & stored, set())
 
     def test_no_name_is_a_method_and_an_attribute(self):
         methods = {one.name for _, node in self.nodes(ast.ClassDef) for one in node.body
